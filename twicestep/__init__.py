@@ -1,0 +1,1 @@
+"""Twicestep: which rules of two steps have a formula."""
