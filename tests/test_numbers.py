@@ -252,16 +252,16 @@ class Arithmetic(unittest.TestCase):
 
     def test_fractions(self):
         half, third = (1, 0, 2, 1), (1, 0, 3, 1)
-        self.assertEqual([call(half, third) for call in BINARY], [(5, 0, 6, 1), (1, 0, 6, 1), (1, 0, 6, 1),
-                                                                  (3, 0, 2, 1)])
-        self.assertEqual([call(third, half) for call in BINARY], [(5, 0, 6, 1), (-1, 0, 6, 1), (1, 0, 6, 1),
-                                                                  (2, 0, 3, 1)])
+        self.assertEqual([call(half, third) for call in BINARY],
+                         [(5, 0, 6, 1), (1, 0, 6, 1), (1, 0, 6, 1), (3, 0, 2, 1)])
+        self.assertEqual([call(third, half) for call in BINARY],
+                         [(5, 0, 6, 1), (-1, 0, 6, 1), (1, 0, 6, 1), (2, 0, 3, 1)])
         self.assertEqual(over(half, (-1, 0, 3, 1)), (-3, 0, 2, 1))
 
     def test_with_roots(self):
         one, other = (1, 1, 1, 2), (3, -1, 2, 2)
-        self.assertEqual([call(one, other) for call in BINARY], [(5, 1, 2, 2), (-1, 3, 2, 2), (1, 2, 2, 2),
-                                                                 (10, 8, 7, 2)])
+        self.assertEqual([call(one, other) for call in BINARY],
+                         [(5, 1, 2, 2), (-1, 3, 2, 2), (1, 2, 2, 2), (10, 8, 7, 2)])
         self.assertEqual(times((0, 1, 1, -1), (0, 1, 1, -1)), whole(-1))
         self.assertEqual(over(ONE, (0, 1, 1, -1)), (0, -1, 1, -1))
         self.assertEqual(over(ONE, (2, 1, 1, 5)), (-2, 1, 1, 5))

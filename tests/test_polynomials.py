@@ -42,14 +42,12 @@ class IsPolynomial(unittest.TestCase):
         self.is_none((ROOT2, (0, 1, 1, 6)), ((0, 1, 1, 10), (0, 1, 1, 6)), (ROOT2, ONE, ROOT2, ONE, (1, 1, 1, 5)))
 
     def test_each_is_a_number(self):
-        for bad in ((2, 0, 2, 1), (1, 0, -1, 1), (1, 0, 1, 2), (0, 1, 1, 4), (0, 1, 1, 12), (0, 1, 1, 10 ** 12 + 1), 1,
-                    None,
-                    (True, 0, 1, 1), (1, 0, True, 1), [1, 0, 1, 1], (1, 0, 1), (1, 1, 1, 1), (1, 1, 1,
-                                                                                              0), (), "1", (0, 0, 1, 2),
-                    (0, 0, 2, 1), (0, 1, 1, -999983 ** 2), (0, 1, 1, 2 * 499979 ** 2)):
+        for bad in ((2, 0, 2, 1), (1, 0, -1, 1), (1, 0, 1, 2), (0, 1, 1, 4), (0, 1, 1, 12), (0, 1, 1, 10 ** 12 + 1),
+                    1, None, (True, 0, 1, 1), (1, 0, True, 1), [1, 0, 1, 1], (1, 0, 1), (1, 1, 1, 1), (1, 1, 1, 0), (),
+                    "1", (0, 0, 1, 2), (0, 0, 2, 1), (0, 1, 1, -999983 ** 2), (0, 1, 1, 2 * 499979 ** 2)):
             self.is_none((bad,), (ONE, bad), (bad, ONE), (bad, bad), (ONE, bad, ONE), (bad,) + (ONE,) * 8)
             if type(bad) is tuple and len(bad) == 4:
-                self.is_none(((0, 1, 1, bad[3]), (bad)), (bad, ROOT2), (ROOT2, bad))
+                self.is_none(((0, 1, 1, bad[3]), bad), (bad, ROOT2), (ROOT2, bad))
 
     def test_other_kinds(self):
         self.is_none([], [ONE], {}, None, True, False, 0, 1, "", ONE, NIL, ROOT2, (ONE, None), {ONE: 1}, ((ONE,),),
@@ -340,8 +338,8 @@ class Moved(unittest.TestCase):
     def test_many(self):
         rng = random.Random(30)
         for _ in range(100):
-            self.check(some_polynomial(rng, rng.choice([1, 2, -1])), rng.choice([-1, 1, -20, 20,
-                                                                                 rng.randint(-999, 999)]))
+            k = rng.choice([-1, 1, -20, 20, rng.randint(-999, 999)])
+            self.check(some_polynomial(rng, rng.choice([1, 2, -1])), k)
 
     def test_there_and_back(self):
         rng = random.Random(31)
