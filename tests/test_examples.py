@@ -20,6 +20,36 @@ POLYNOMIALS = """
 [((-1, 1), (1, 2)), False, False, ((1, 0, 1, 1), (2, 0, 1, 1), (1, 0, 1, 1)), ((-1, 0, 1, 1), (0, 0, 1, 1), (1, 0, 1, 1)), (1, 1, 1, 2)]
 """
 
+RULES = """
+>>> from twicestep.rules import first_place, is_rule, keeps, row, standing
+>>> ONE, LESS = (1, 0, 1, 1), (-1, 0, 1, 1)
+>>> APART = ((ONE,), (LESS, LESS), (LESS, LESS))
+>>> [is_rule(APART), first_place(APART), first_place(((LESS, ONE), (), (ONE,))), [p for p, q, s, d in row(APART, 0, ONE, (0, 0, 1, 1), 7)], keeps(APART, 0, row(APART, 0, ONE, ONE, 5))]
+[True, 0, 2, [1, 0, 1, 2, 9, 44, 265], True]
+>>> standing(row(APART, 0, ONE, ONE, 4), row(APART, 0, ONE, (0, 0, 1, 1), 4))
+((-1, 0, 1, 1), (1, 0, 1, 1), (-2, 0, 1, 1))
+"""
+
+FORMULAS = """
+>>> from twicestep.formulas import are_alike, formula_row, is_formula, is_formula_of
+>>> NIL, ONE, LESS = (0, 0, 1, 1), (1, 0, 1, 1), (-1, 0, 1, 1)
+>>> APART = ((ONE,), (LESS, LESS), (LESS, LESS))
+>>> FACTORIAL = (ONE, (((-1, 1), 1),), (ONE,))
+>>> OTHERWISE = (ONE, (((0, 1), 1),), (NIL, ONE))
+>>> [is_formula_of(APART, FACTORIAL), is_formula_of(APART, OTHERWISE), are_alike(FACTORIAL, OTHERWISE), [p for p, q, s, d in formula_row(FACTORIAL, 0, 6)], is_formula((NIL, (), (ONE,)))]
+[True, True, True, [1, 1, 2, 6, 24, 120], False]
+"""
+
+LINES = """
+>>> from twicestep.lines import choice, classes, equation, lines
+>>> ONE, LESS = (1, 0, 1, 1), (-1, 0, 1, 1)
+>>> APART = ((ONE,), (LESS, LESS), (LESS, LESS))
+>>> [classes(APART), choice(APART, (0, 1), 0), choice(APART, (0, 1), 1), lines(APART), equation(APART, 1, 0, 1)]
+[(((0, 1), (1, 0)),), (), (((-1, 1), 1),), (((0,), (-1, 0, 1, 1), ()), ((1,), (1, 0, 1, 1), (0,))), ((0, 0, 1, 1),)]
+>>> [classes((((1, 0, 2, 1), ONE), (ONE,), (LESS, ONE))), lines(((ONE,), (LESS,), (LESS,)))]
+[(((0, 1), (1, 0)), ((1, 2), (0, 1))), (((), (1, 1, 2, 5), (0,)), ((), (1, -1, 2, 5), (0,)))]
+"""
+
 
 def shown(expression, names):
     """What an expression gives: an answer, or the error's class and what it carries."""
@@ -53,6 +83,15 @@ class Examples(unittest.TestCase):
 
     def test_polynomials(self):
         self.check(POLYNOMIALS)
+
+    def test_rules(self):
+        self.check(RULES)
+
+    def test_formulas(self):
+        self.check(FORMULAS)
+
+    def test_lines(self):
+        self.check(LINES)
 
 
 if __name__ == "__main__":
