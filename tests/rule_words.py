@@ -257,14 +257,15 @@ class Line:
                      added(multiplied(p1, later(polynomial, 1)), multiplied(p0, polynomial)))
 
     def degrees(self, most=80):
-        """The degrees up to a bound, each tried."""
+        """The degrees; where there may be two, those below a bound, each tried."""
         greatest = max(len(part) for part in self.parts) - 1
         p, q, r = [[part[greatest - k] if 0 <= greatest - k < len(part) else Surd(0) for k in range(3)]
                    for part in self.parts]
         assert p[0] + q[0] + r[0] == 0
         slope, rest = p[0] * 2 + q[0], p[1] + q[1] + r[1]
         if not slope == 0:
-            return tuple(d for d in range(most) if slope * d + rest == 0)
+            d = -rest / slope
+            return (int(d.a),) if d.b == 0 and d.a.denominator == 1 and d.a >= 0 else ()
         if not rest == 0:
             return ()
         return tuple(d for d in range(most)

@@ -50,6 +50,35 @@ LINES = """
 [(((0, 1), (1, 0)), ((1, 2), (0, 1))), (((), (1, 1, 2, 5), (0,)), ((), (1, -1, 2, 5), (0,)))]
 """
 
+VERDICTS = """
+>>> from twicestep.verdict import even_rule, formula_holds, judge_formula, judge_verdict, many_formulas, verdict
+>>> ONE, LESS = (1, 0, 1, 1), (-1, 0, 1, 1)
+>>> APART = ((ONE,), (LESS, LESS), (LESS, LESS))
+>>> PAIRS = ((ONE,), (LESS,), (LESS, LESS))
+>>> [verdict(APART), many_formulas(APART), judge_formula(APART)[0], formula_holds(APART, ('formula', ONE, (((-1, 1), 1),), (ONE,))), verdict(PAIRS), verdict(((ONE,), (), (LESS, LESS)))]
+['formula', 'one', 'formula', True, 'nothing', 'laid']
+>>> [even_rule(PAIRS), judge_verdict(PAIRS)]
+[(((-1, 0, 1, 1),), ((6, 0, 1, 1), (4, 0, 1, 1)), ((-2, 0, 1, 1), (-6, 0, 1, 1), (-4, 0, 1, 1))), ('nothing', ('table', ()), ('table', ('shut', 'shut')))]
+>>> [verdict(((LESS, ONE), (ONE,), ((0, 0, 1, 1), (0, 0, 1, 1), LESS))), many_formulas(((ONE,), ((-2, 0, 1, 1),), (ONE,)))]
+['laid', 'endless']
+"""
+
+CHANGES = """
+>>> from twicestep.changes import moved, multiplied, turned
+>>> ONE, TWO, LESS = (1, 0, 1, 1), (2, 0, 1, 1), (-1, 0, 1, 1)
+>>> APART = ((ONE,), (LESS, LESS), (LESS, LESS))
+>>> [moved(APART, 1), turned(APART), turned(turned(APART)) == APART, multiplied(APART, (TWO, ()))]
+[(((1, 0, 1, 1),), ((-2, 0, 1, 1), (-1, 0, 1, 1)), ((-2, 0, 1, 1), (-1, 0, 1, 1))), (((1, 0, 1, 1), (1, 0, 1, 1)), ((1, 0, 1, 1), (1, 0, 1, 1)), ((1, 0, 1, 1),)), True, (((1, 0, 1, 1),), ((-2, 0, 1, 1), (-2, 0, 1, 1)), ((-4, 0, 1, 1), (-4, 0, 1, 1)))]
+"""
+
+NAMED = """
+>>> from twicestep.named import bessel_verdict, charlier, charlier_verdict, gegenbauer_verdict, hermite, hermite_verdict, laguerre_verdict, meixner_verdict, steady, steady_verdict
+>>> [steady((1, 1), (1, 1)), hermite((1, 2), (1, 3)), charlier((0, 1), (2, 1))]
+[(((1, 0, 1, 1),), ((-1, 0, 1, 1),), ((-1, 0, 1, 1),)), (((1, 0, 1, 1),), ((-1, 0, 2, 1),), ((-1, 0, 3, 1), (-1, 0, 1, 1))), (((2, 0, 1, 1),), ((-3, 0, 1, 1), (-1, 0, 1, 1)), ((1, 0, 1, 1), (1, 0, 1, 1)))]
+>>> [steady_verdict((1, 1), (1, 1)), hermite_verdict((0, 1), (1, 3)), bessel_verdict((2, 1), (1, 2), (-1, 1)), gegenbauer_verdict((3, 1), (1, 2)), gegenbauer_verdict((3, 1), (2, 1)), gegenbauer_verdict((0, 1), (1, 2)), laguerre_verdict((1, 1), (0, 1)), charlier_verdict((-2, 1), (1, 3)), meixner_verdict((1, 4), (1, 2), (-1, 1)), meixner_verdict((1, 4), (1, 2), (2, 1))]
+['formula', 'laid', 'nothing', 'nothing', 'formula', 'laid', 'nothing', 'formula', 'laid', 'nothing']
+"""
+
 
 def shown(expression, names):
     """What an expression gives: an answer, or the error's class and what it carries."""
@@ -92,6 +121,15 @@ class Examples(unittest.TestCase):
 
     def test_lines(self):
         self.check(LINES)
+
+    def test_verdicts(self):
+        self.check(VERDICTS)
+
+    def test_changes(self):
+        self.check(CHANGES)
+
+    def test_named(self):
+        self.check(NAMED)
 
 
 if __name__ == "__main__":

@@ -79,7 +79,8 @@ def power_number(parts, k, j):
     """The number that F(n ** k) has at n ** j."""
     p2, p1, p0 = parts
     total = number_at(p0, j - k)
-    for i in range(k + 1):
+    # Elsewhere p2 and p1 have no numbers at n ** (j - i).
+    for i in range(max(0, j + 1 - max(len(p2), len(p1))), min(k, j) + 1):
         # (n + 2) ** k and (n + 1) ** k have at n ** i the numbers many * 2 ** (k - i) and many.
         many = whole_number(comb(k, i))
         both = weighted(whole_number(1 << (k - i)), number_at(p2, j - i), number_at(p1, j - i))

@@ -65,3 +65,12 @@ def poly_shifted(polynomial, k):
         for at in range(len(numbers) - 2, start - 1, -1):
             numbers[at] = sum_of(numbers[at], product_of(step, numbers[at + 1]))
     return tuple(numbers)
+
+
+def poly_stretched(polynomial, k):
+    """The polynomial that has at n the value of the first one at k n, for an integer k other than 0."""
+    numbers, power = [], whole_number(1)
+    for number in polynomial:
+        numbers.append(product_of(number, power))
+        power = product_of(power, whole_number(k))
+    return tuple(numbers)
